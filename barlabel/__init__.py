@@ -1,0 +1,1 @@
+"""Barlabel: texts in bars, written, printed, scanned and gathered."""
