@@ -10,11 +10,12 @@ def is_whole(thing):
     return isinstance(thing, int) and not isinstance(thing, bool)
 
 
-def is_symbol(prime, thing):
-    return is_whole(thing) and 0 <= thing < prime
+# There are as many symbols as the prime tells or, where a row is printed, as a fount has patterns.
+def is_symbol(count, thing):
+    return is_whole(thing) and 0 <= thing < count
 
 
-def check_symbols(prime, row):
+def check_symbols(count, row):
     for number, thing in enumerate(row):
-        if not is_symbol(prime, thing):
+        if not is_symbol(count, thing):
             raise NoSymbol(number)

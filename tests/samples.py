@@ -1,5 +1,6 @@
-"""Tables for the tests, and a second, slow way to find what the program must answer."""
+"""Tables and founts for the tests, and a second, slow way to find what the program must answer."""
 
+import itertools
 import random
 
 PRIMES = [5, 7, 11, 13, 17, 19, 23, 29, 31, 37, 41, 43, 47]
@@ -34,6 +35,21 @@ SMALL = [PLAIN, RING, TRAP, EITHER, ROUND, SINGLE, APART, FORKED]
 
 NO_TEXTS = [None, True, False, 0, 1, 5, 2.5, b"ab", b"symbols 5\na b c d e", [], ["a"], ("a", "b"), {}, {"a": 1},
             set(), object(), str, ["symbols 5", "a b c d e"]]
+
+# What is a symbol of no prime, of any kind.
+NO_SYMBOLS = [True, False, None, "", "0", "a", [], [0], (0,), {}, 0.0, 1.0, 2.5, b"0", object(), int,
+              -1, -2, -5, -47, 48, 10 ** 19, -10 ** 19]
+
+# What is no whole number and no list of them, of any kind; some of it seems to be one.
+NO_NUMBERS = [True, False, None, "", "4", 4.0, 6.0, 2.5, b"4", [], [4], (4,), {}, {4: 4}, set(), object(), int, list]
+
+# The parts, the total, the start and the stop; they have 20, 44 and 216 patterns.
+NARROW = (4, 7, [1, 2, 3, 1], [2, 1, 1, 3, 2])
+BROAD = (4, 10, [4, 1, 1, 4], [1, 4, 4, 1, 1])
+LONG = (6, 11, [2, 1, 1, 2, 1, 4], [2, 3, 3, 1, 1, 1, 2])
+# As few and as many units as can be.
+LEAST = (4, 4, [1, 1, 1, 1], [1, 1, 1, 1, 2])
+MOST = (6, 24, [4, 4, 4, 4, 4, 4], [4, 4, 4, 4, 4, 4, 1])
 
 
 def made_table(chance, prime, cases, signs):
@@ -148,3 +164,28 @@ def read_slowly(table_text, row):
             text += word
         number += 1
     return text
+
+
+def lists_of_widths(parts, total):
+    """All lists gone through, in their order."""
+    lists = [list(widths) for widths in itertools.product([1, 2, 3, 4], repeat=parts)]
+    return [widths for widths in lists if sum(widths) == total]
+
+
+def made_founts(seed):
+    """For each number of parts and each total what makes a fount."""
+    chance = random.Random(seed)
+    made = []
+    for parts in (4, 6):
+        for total in range(parts, 4 * parts + 1):
+            lists = lists_of_widths(parts, total)
+            start, stop = None, []
+            while start is None or stop[:0:-1] == start:
+                start = list(chance.choice(lists))
+                stop = chance.choice(lists) + [chance.randint(1, 4)]
+            made.append((parts, total, start, stop))
+    return made
+
+
+def primes_for(parts, total):
+    return [prime for prime in PRIMES if prime <= len(lists_of_widths(parts, total))]

@@ -1,9 +1,12 @@
 import unittest
 
 from barlabel import errors
+from barlabel.checks import labelled, mended
+from barlabel.founts import Fount
+from barlabel.scans import scanned
 from barlabel.tables import Table
 from barlabel.writing import written
-from samples import PLAIN
+from samples import NARROW, PLAIN
 
 NAMES = ["NoTable", "NoSymbol", "NoReading", "NoWriting", "TooLong", "Spoilt", "NoFount", "NoLabel", "NoRoom",
          "Mixed", "Lost", "NoForm", "NoName"]
@@ -46,6 +49,29 @@ class Errors(unittest.TestCase):
         refusal = self.refused(written, table, "aaax")
         self.assertIs(type(refusal), errors.NoWriting)
         self.assertEqual(refusal.number, 3)
+
+    def test_refusals_of_checks(self):
+        for function in (labelled, mended):
+            refusal = self.refused(function, 5, [0, 1, 5])
+            self.assertIs(type(refusal), errors.NoSymbol)
+            self.assertEqual(refusal.number, 2)
+            refusal = self.refused(function, 5, [0] * 6)
+            self.assertIs(type(refusal), errors.TooLong)
+            self.assertEqual(refusal.length, 6)
+        self.assertIs(type(self.refused(mended, 5, [1, 4])), errors.Spoilt)
+        self.assertIs(type(self.refused(mended, 5, [None] * 3)), errors.Spoilt)
+
+    def test_refusals_of_founts_and_scans(self):
+        fount = Fount(*NARROW)
+        self.assertIs(type(self.refused(Fount, 5, 7, [], [])), errors.NoFount)
+        refusal = self.refused(fount.printed, [0, 20])
+        self.assertIs(type(refusal), errors.NoSymbol)
+        self.assertEqual(refusal.number, 1)
+        for refusal in (self.refused(fount.looked, 5, []), self.refused(fount.looked, 5, [1] * 9),
+                        self.refused(scanned, fount, 5, []), self.refused(scanned, fount, 5, [0] * 10),
+                        self.refused(scanned, fount, 5, list(range(10)))):
+            self.assertIs(type(refusal), errors.NoLabel)
+            self.assertIsNone(refusal.number)
 
 
 if __name__ == "__main__":
