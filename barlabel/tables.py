@@ -5,6 +5,8 @@ from barlabel.symbols import PRIMES, check_symbols
 
 SIGNS = "abcdefghijklmnopqrstuvwxyz0123456789"
 MOST_ROWS = 5
+# A place in a reading is the case and, where a shift is open, the shift's case.
+BEGINNING = (0, None)
 
 
 # Whole rows are compared, so that no nought, blank or sign of a number slips through.
@@ -71,22 +73,29 @@ class Table:
     def shown(self):
         return self.text
 
+    # The place behind the symbol, None where the symbol can't be read here; and the sign given, perhaps none.
+    def behind(self, place, symbol):
+        case = place[0]
+        shifted = place[1]
+        meaning = self.meanings[case if shifted is None else shifted][symbol]
+        if meaning[0] == "sign":
+            return ((case, None), meaning[1])
+        if meaning[0] == "nothing" or shifted is not None:
+            return (None, "")
+        if meaning[0] == "lock":
+            return ((meaning[1], None), "")
+        return ((case, meaning[1]), "")
+
     def read(self, row):
         check_symbols(self.size, row)
         signs = []
-        case = 0
-        shifted = None
+        place = BEGINNING
         for number, symbol in enumerate(row):
-            meaning = self.meanings[case if shifted is None else shifted][symbol]
-            if meaning[0] == "sign":
-                signs.append(meaning[1])
-                shifted = None
-            elif meaning[0] == "nothing" or shifted is not None:
+            step = self.behind(place, symbol)
+            if step[0] is None:
                 raise NoReading(number)
-            elif meaning[0] == "lock":
-                case = meaning[1]
-            else:
-                shifted = meaning[1]
-        if shifted is not None:
+            place = step[0]
+            signs.append(step[1])
+        if place[1] is not None:
             raise NoReading(len(row))
         return "".join(signs)

@@ -189,3 +189,43 @@ def made_founts(seed):
 
 def primes_for(parts, total):
     return [prime for prime in PRIMES if prime <= len(lists_of_widths(parts, total))]
+
+
+def sums(prime, row):
+    """The sum and the weighed sum, each by its rest."""
+    plain, weighed = 0, 0
+    for number in range(len(row)):
+        plain = (plain + row[number]) % prime
+        weighed = (weighed + (number + 1) * row[number]) % prime
+    return plain, weighed
+
+
+def with_changed(row, changes):
+    return [changes.get(number, thing) for number, thing in enumerate(row)]
+
+
+def label_slowly(prime, row):
+    """The row with the two symbols behind it that make it good, found by trying all."""
+    plain, weighed = sums(prime, row)
+    for last_but_one in range(prime):
+        for last in range(prime):
+            whole = weighed + (len(row) + 1) * last_but_one + (len(row) + 2) * last
+            if (plain + last_but_one + last) % prime == 0 and whole % prime == 0:
+                return row + [last_but_one, last]
+    raise AssertionError(row)
+
+
+def labels_slowly(prime, room, row):
+    """The labels on which the row is parted, the spare the last."""
+    count = 1
+    while count * room < len(row):
+        count += 1
+    labels = []
+    for number in range(count):
+        piece = row[number * room:][:room]
+        labels.append(label_slowly(prime, [number, count, len(piece)] + piece + [0] * (room - len(piece))))
+    spare = [count, count]
+    for place in range(2, room + 3):
+        rest = sum(label[place] for label in labels) % prime
+        spare.append([symbol for symbol in range(prime) if rest + symbol in (0, prime)][0])
+    return labels + [label_slowly(prime, spare)]

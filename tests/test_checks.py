@@ -4,16 +4,7 @@ import unittest
 
 from barlabel.checks import is_good, labelled, mended
 from barlabel.errors import NoSymbol, Spoilt, TooLong
-from samples import NO_SYMBOLS, PRIMES
-
-
-def sums(prime, row):
-    """The sum and the weighed sum, each by its rest."""
-    plain, weighed = 0, 0
-    for number in range(len(row)):
-        plain = (plain + row[number]) % prime
-        weighed = (weighed + (number + 1) * row[number]) % prime
-    return plain, weighed
+from samples import NO_SYMBOLS, PRIMES, sums, with_changed
 
 
 def all_rows(prime, length):
@@ -24,10 +15,6 @@ def some_rows(seed, prime, length, count=3):
     chance = random.Random(f"{seed} {prime} {length}")
     rows = [[0] * length, [prime - 1] * length]
     return rows + [[chance.randrange(prime) for place in range(length)] for turn in range(count)]
-
-
-def with_changed(row, changes):
-    return [changes.get(number, thing) for number, thing in enumerate(row)]
 
 
 def filled_in_every_way(prime, things):

@@ -2,7 +2,9 @@ import unittest
 
 from barlabel import errors
 from barlabel.checks import labelled, mended
+from barlabel.desk import Desk
 from barlabel.founts import Fount
+from barlabel.rolls import Roll
 from barlabel.scans import scanned
 from barlabel.tables import Table
 from barlabel.writing import written
@@ -72,6 +74,38 @@ class Errors(unittest.TestCase):
                         self.refused(scanned, fount, 5, list(range(10)))):
             self.assertIs(type(refusal), errors.NoLabel)
             self.assertIsNone(refusal.number)
+
+    def test_refusals_of_rolls(self):
+        roll = Roll(7, 1)
+        labels = roll.parted([1, 2, 3])
+        self.assertIs(type(self.refused(Roll, 7, 3)), errors.NoRoom)
+        refusal = self.refused(roll.parted, [0, 7])
+        self.assertIs(type(refusal), errors.NoSymbol)
+        self.assertEqual(refusal.number, 1)
+        refusal = self.refused(roll.parted, [0] * 7)
+        self.assertIs(type(refusal), errors.TooLong)
+        self.assertEqual(refusal.length, 7)
+        for ask in (roll.gathered, roll.all_labels):
+            refusal = self.refused(ask, labels + [None])
+            self.assertIs(type(refusal), errors.NoLabel)
+            self.assertEqual(refusal.number, 4)
+            refusal = self.refused(ask, labels + roll.parted([1]))
+            self.assertIs(type(refusal), errors.Mixed)
+            self.assertEqual(refusal.number, 4)
+            refusal = self.refused(ask, [labelled(7, [0, 1, 2, 0])] + roll.parted([])[1:])
+            self.assertIs(type(refusal), errors.Mixed)
+            self.assertIsNone(refusal.number)
+            refusal = self.refused(ask, labels[2:])
+            self.assertIs(type(refusal), errors.Lost)
+            self.assertEqual(refusal.numbers, [0, 1])
+
+    def test_refusals_of_the_desk(self):
+        desk = Desk()
+        self.assertIs(type(self.refused(desk.say, "show")), errors.NoForm)
+        self.assertIs(type(self.refused(desk.say, "show a")), errors.NoName)
+        refusal = self.refused(desk.say, "table a symbols 5")
+        self.assertIs(type(refusal), errors.NoTable)
+        self.assertEqual(refusal.row, 1)
 
 
 if __name__ == "__main__":

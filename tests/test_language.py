@@ -42,6 +42,27 @@ def nodes(kind=ast.AST):
                 yield f"{file.name}:{getattr(node, 'lineno', 0)}", node
 
 
+def tops():
+    """Of each file its module's name and its topmost steps."""
+    for file in files():
+        yield f"barlabel.{file.stem}", ast.parse(file.read_text()).body
+
+
+def names_bound(steps):
+    for step in steps:
+        if isinstance(step, (ast.FunctionDef, ast.ClassDef)):
+            yield step.name
+        elif isinstance(step, ast.Assign):
+            yield step.targets[0].id
+
+
+def imports(steps):
+    for step in steps:
+        if isinstance(step, ast.ImportFrom):
+            for alias in step.names:
+                yield step.module, alias.name
+
+
 def is_plain_value(node):
     return isinstance(node, ast.Constant) and (node.value is None or isinstance(node.value, bool))
 
@@ -146,6 +167,58 @@ class Language(unittest.TestCase):
                    if isinstance(part, ast.FunctionDef)}
         values = {node.attr for place, node in nodes(ast.Attribute) if isinstance(node.ctx, ast.Store)}
         self.assertEqual(methods & values, set())
+
+    def test_imports_are_drawn_from_the_file_that_defines_the_name(self):
+        defined = {module: set(names_bound(steps)) for module, steps in tops()}
+        for module, steps in tops():
+            for source, name in imports(steps):
+                self.assertIn(name, defined[source], module)
+
+    def test_no_two_files_draw_from_one_another(self):
+        drawn = {module: {source for source, name in imports(steps)} for module, steps in tops()}
+        while drawn:
+            free = [module for module in drawn if not drawn[module] & set(drawn)]
+            self.assertTrue(free, drawn)
+            for module in free:
+                del drawn[module]
+
+    def test_names_are_bound_once_and_not_hidden(self):
+        for module, steps in tops():
+            bound = list(names_bound(steps)) + [name for source, name in imports(steps)]
+            self.assertEqual(len(bound), len(set(bound)), module)
+            for step in steps:
+                if isinstance(step, (ast.FunctionDef, ast.ClassDef)):
+                    local = {node.id for node in ast.walk(step) if isinstance(node, ast.Name)
+                             and isinstance(node.ctx, ast.Store)}
+                    local |= {node.arg for node in ast.walk(step) if isinstance(node, ast.arg)}
+                    self.assertEqual(local & set(bound), set(), module)
+
+    def test_what_stands_at_the_top_holds_no_list_or_dict_within(self):
+        for module, steps in tops():
+            for step in steps:
+                if isinstance(step, ast.Assign):
+                    inner = [node for node in ast.walk(step.value) if node is not step.value]
+                    self.assertFalse([node for node in inner if isinstance(node, (ast.List, ast.Dict))], module)
+
+    def test_walks_are_not_kept(self):
+        walks = ("zip", "enumerate", "reversed", "range", "items", "keys", "values")
+        takers = ("list", "tuple", "dict", "sorted", "sum", "any", "all", "enumerate", "zip", "min", "max", "join")
+        allowed = set()
+        for place, node in nodes((ast.For, ast.comprehension, ast.Call)):
+            if isinstance(node, (ast.For, ast.comprehension)):
+                allowed.add(ast.dump(node.iter, include_attributes=True))
+            elif getattr(node.func, "id", getattr(node.func, "attr", None)) in takers and node.args:
+                allowed.add(ast.dump(node.args[0], include_attributes=True))
+        for place, node in nodes(ast.Call):
+            if getattr(node.func, "id", getattr(node.func, "attr", None)) in walks:
+                self.assertIn(ast.dump(node, include_attributes=True), allowed, place)
+
+    def test_sets_and_tries_are_not_needed(self):
+        # So what is told of both needs no look here.
+        for place, node in nodes((ast.Set, ast.Try)):
+            self.fail(place)
+        for place, node in nodes(ast.Name):
+            self.assertNotIn(node.id, ("set", "frozenset"), place)
 
 
 if __name__ == "__main__":

@@ -3,13 +3,10 @@ import random
 import unittest
 from fractions import Fraction
 
-from barlabel.checks import labelled, mended
 from barlabel.errors import NoLabel
 from barlabel.founts import Fount
 from barlabel.scans import edges_of, scanned
-from barlabel.tables import Table
-from barlabel.writing import written
-from samples import BROAD, FULL, LONG, NARROW, made_founts, primes_for
+from samples import BROAD, LONG, NARROW, made_founts, primes_for
 
 SUITED = [made for made in [NARROW, BROAD, LONG] + made_founts(15) if primes_for(*made[:2])]
 FIRSTS = [0, 1, -1, -7, 1000, -10 ** 19, 10 ** 19]
@@ -290,24 +287,6 @@ class Scans(unittest.TestCase):
         edges.clear()
         self.assertEqual(again, [3, 2])
         self.assertEqual((fount.start(), fount.stop()), (NARROW[2], NARROW[3]))
-
-
-class Road(unittest.TestCase):
-    def test_from_a_text_to_edges_and_back(self):
-        table = Table(FULL)
-        fount = Fount(*NARROW)
-        chance = random.Random(19)
-        for text in ("", "a", "cab", "dda", "9b"):
-            label = labelled(7, written(table, text))
-            widths = fount.printed(label)
-            for number in range(len(label)):
-                spoilt = list(label)
-                spoilt[number] = 12
-                for seen in (label, spoilt):
-                    edges = [edge + chance.randint(-2, 2) for edge in edges_of(fount.printed(seen), -99, 16)]
-                    for found in (edges, turned(edges, 1)):
-                        self.assertEqual(table.read(mended(7, scanned(fount, 7, found))[:-2]), text)
-            self.assertEqual(mended(7, fount.looked(7, widths)), label)
 
 
 if __name__ == "__main__":
